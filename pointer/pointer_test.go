@@ -92,8 +92,7 @@ func TestIndex(t *testing.T) { // P7.2
 }
 
 func TestCompare(t *testing.T) { // P7.2
-	rise := [][]string{nil, {""}, {"", "x"}, {"/"}, {"10"}, {"9"}, {"A"}, {"a"}, {"a", ""}, {"a", "b"}, {"a", "b", "a"}, {"a", "c"}, {"aa"}, {"é"}, {"\xff"}, long(99)[:0:0]}
-	rise = rise[:len(rise)-1]
+	rise := [][]string{nil, {""}, {"", "x"}, {"/"}, {"10"}, {"9"}, {"A"}, {"a"}, {"a", ""}, {"a", "b"}, {"a", "b", "a"}, {"a", "c"}, {"aa"}, {"é"}, {"\xff"}}
 	for i, a := range rise {
 		for j, b := range rise {
 			if got := pointer.Compare(a, b); got != max(-1, min(1, i-j)) {
