@@ -86,7 +86,7 @@ func TestParseWrong(t *testing.T) { // P5.1
 		{`{"a":1 "b":2}`, 7, api.ErrForm}, {`{"a"`, 4, api.ErrForm}, {`{"a":`, 5, api.ErrForm}, {`{"a":1`, 6, api.ErrForm}, {`{`, 1, api.ErrForm}, {`{]`, 1, api.ErrForm}, {`[}`, 1, api.ErrForm}, {`:`, 0, api.ErrForm}, {`["a":1]`, 4, api.ErrForm},
 		{`{"a":1,"\u0061":2}`, 7, api.ErrDouble}, {`{"a":1,"a" 2}`, 7, api.ErrDouble}, {`{"a":1,"b":{"a":1},"a":[}`, 19, api.ErrDouble}, {`{"":1,"":1}`, 6, api.ErrDouble}, {`{"a":1 ,"b",`, 11, api.ErrForm},
 		{"[x,]", 1, api.ErrForm}, {"[1,,x]", 4, api.ErrForm}, {"]]1e9999999999", 2, api.ErrNum}, {strings.Repeat(" ", api.MaxText+1), 0, api.ErrLong}, {"[" + strings.Repeat("1", api.MaxDigits+1), 1, api.ErrLong},
-		{deep(32, "1"), 32, api.ErrDeep}, {deep(33, ""), 32, api.ErrDeep}, {deep(32, "]"), 64, api.ErrForm}, {deep(32, ","), 32, api.ErrForm}, {deep(31, `{"a":0}`), 36, api.ErrDeep}, {deep(32, ":"), 32, api.ErrForm},
+		{deep(32, "1"), 32, api.ErrDeep}, {deep(33, ""), 32, api.ErrDeep}, {deep(32, "]"), 64, api.ErrForm}, {deep(32, ","), 32, api.ErrForm}, {deep(31, `{"a":0}`), 36, api.ErrDeep}, {strings.Repeat(`{"a":`, 32) + "0" + strings.Repeat("}", 32), 160, api.ErrDeep}, {deep(32, ":"), 32, api.ErrForm},
 		{many(api.MaxNodes + 1), 2*api.MaxNodes - 1, api.ErrMany}, {many(api.MaxNodes+2) + "]", 2*api.MaxNodes - 1, api.ErrMany}, {strings.TrimSuffix(many(api.MaxNodes), "]") + ",]", 2*api.MaxNodes - 1, api.ErrForm},
 		{"[" + strings.Repeat("0,", api.MaxNodes-32) + deep(32, "1") + "]", 1 + 2*(api.MaxNodes-32) + 31, api.ErrDeep},
 	} {
@@ -94,7 +94,7 @@ func TestParseWrong(t *testing.T) { // P5.1
 			t.Errorf("%.40q: %d, %d, not %d, %d", c.s, at, err, c.at, c.err)
 		}
 	}
-	for _, s := range []string{deep(32, ""), deep(31, "1"), many(api.MaxNodes), strings.Repeat(" ", api.MaxText-1) + "1"} {
+	for _, s := range []string{deep(32, ""), deep(31, "1"), strings.Repeat(`{"a":`, 31) + "{}" + strings.Repeat("}", 31), strings.Repeat(`[{"a":`, 15) + "[0]" + strings.Repeat("}]", 15), many(api.MaxNodes), strings.Repeat(" ", api.MaxText-1) + "1"} {
 		if _, n, err := json.Parse(s); n != len(s) || err != api.OK {
 			t.Errorf("%.40q: %d, %d", s, n, err)
 		}

@@ -31,7 +31,7 @@ func TestUnquote(t *testing.T) { // P3.2
 	for s, want := range map[string]string{
 		`""`: "", `"a"`: "a", `"\ud83d\ude00"`: "\U0001f600", `"\uD83D\uDE00"`: "\U0001f600", `"\"\\\/\b\f\n\r\t"`: "\"\\/\b\f\n\r\t", `"\u0061\u00E9\u00e9\u20aC"`: "aéé€",
 		"\"\u007f\ufffd\U0010ffff\"": "\u007f\ufffd\U0010ffff", `"\ud800\udc00\udbff\udfff"`: "\U00010000\U0010ffff", `"\ud7ff\ue000\uffff\u0000"`: "\ud7ff\ue000\uffff\x00",
-		`"'/"`: "'/", `"\\u0061"`: `\u0061`,
+		`"'/"`: "'/", `"\\u0061"`: `\u0061`, `"\u00AF\u00FA\u0afF"`: "\u00af\u00fa\u0aff",
 	} {
 		if got, n, err := quote.Unquote(s); got != want || n != len(s) || err != api.OK {
 			t.Errorf("%s: %q, %d, %d", s, got, n, err)
@@ -43,7 +43,7 @@ func TestUnquote(t *testing.T) { // P3.2
 var wrong = map[string]int{
 	"": 0, "a": 0, "'a'": 0, ` "a"`: 0, `"`: 1, `"a`: 2, `"a\x"`: 2, `"\ud83d"`: 1, `"\`: 1, `"ab\`: 3, `"a"b`: 3, `""""`: 2, `"a" `: 3,
 	`"\u"`: 1, `"\u12`: 1, `"a\u12g4"`: 2, `"\u123"`: 1, `"\U0061"`: 1, `"\ud83dx"`: 1, `"\ud83d\n"`: 1, `"\ud83d\u0061"`: 1, `"\ud83d\ud83d\ude00"`: 1, `"\ud83d\ude0"`: 1, `"\ud83d\ude0g"`: 1,
-	`"a\ude00"`: 2, `"\ude00\ud83d"`: 1, `"\udfff"`: 1, `"\ud800\ue000"`: 1, `"\ud83d\`: 1, `"\ud83d\ude00`: 13, "\"a\nb\"": 2, "\"\x1f\"": 1, "\"a\xff\"": 2, "\"é\xed\xa0\x80\"": 3, "\"\xc3": 1,
+	`"a\ude00"`: 2, `"\ude00\ud83d"`: 1, `"\udfff"`: 1, `"\udc00\udc00"`: 1, `"\udfff\udfff"`: 1, `"\udc00\udfff"`: 1, `"a\udbff\udbff"`: 2, `"\ud800\ue000"`: 1, `"\ud83d\`: 1, `"\ud83d\ude00`: 13, "\"a\nb\"": 2, "\"\x1f\"": 1, "\"a\xff\"": 2, "\"é\xed\xa0\x80\"": 3, "\"\xc3": 1,
 	"\"\\\xff\"": 1, "\"a\t\"": 2, `"\a"`: 1, `"\'"`: 1, `"\0"`: 1, "\"\x00\"": 1, `"a\"`: 4, `"\u00:0"`: 1, `"\u00/0"`: 1, `"\u00G0"`: 1, `"\u00` + "`0\"": 1, `"\u00@0"`: 1, "\"a\xf4\x90\x80\x80\"": 2,
 }
 

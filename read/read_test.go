@@ -29,6 +29,11 @@ func TestRead(t *testing.T) { // P9.1, P9.2
 			t.Errorf("%s: %v, %d, %d", s, v, n, err)
 		}
 	}
+	for _, s := range []string{strings.Repeat("[", 32) + strings.Repeat("]", 32), strings.Repeat(`{"a":`, 31) + "0" + strings.Repeat("}", 31)} {
+		if v, n, err := read.Read(s); value.Depth(v) != api.MaxDepth || !value.Right(v) || n != len(s) || err != api.OK {
+			t.Errorf("%s: %v, %d, %d", s, v, n, err)
+		}
+	}
 	for _, s := range []string{"", "[1,]", "x", `{"a":1,"a":2}`, "1e1000001", strings.Repeat("[", 33) + strings.Repeat("]", 33), "[" + strings.Repeat("0,", api.MaxNodes) + "0]", strings.Repeat(" ", api.MaxText+1), strings.Repeat("1", 1001), "1 1"} {
 		_, at, err := json.Parse(s)
 		if v, n, e := read.Read(s); !samples.Zero(v) || n != at || e != err || err == api.OK {
@@ -56,13 +61,15 @@ func TestNode(t *testing.T) { // P9.1
 }
 
 func TestOtherDocsEnd(t *testing.T) { // P9.1, P9.3
-	twice := api.Doc{}
-	for k := range 60 {
-		twice.Nodes = append(twice.Nodes, api.Node{Kind: api.KindArray, Kids: []int{k + 1, k + 1}})
+	// Each node stands twice beneath the one ahead of it: as a tree, these are too many to be gone through.
+	twice := api.Doc{Text: "null"}
+	for k := range api.MaxDepth {
+		twice.Nodes = append(twice.Nodes, api.Node{Kind: api.KindArray, Kids: []int{k + 1, k + 1, k + 1, k + 1}})
 	}
+	twice.Nodes[api.MaxDepth-1] = api.Node{Kind: api.KindNull, Span: api.Span{From: 0, To: 4}}
 	for _, d := range []api.Doc{
 		twice, {Nodes: []api.Node{{Kind: api.KindArray, Kids: []int{0, 0}}}}, {Nodes: []api.Node{{Kind: api.KindObject, Kids: []int{-1, 9, 0}}}}, {Nodes: []api.Node{{Kind: api.KindArray, Kids: []int{7}}}},
-		{Text: `"x`, Nodes: []api.Node{{Kind: api.KindString, Span: api.Span{From: 0, To: 9}}}}, {Text: "x", Nodes: []api.Node{{Kind: api.KindNumber, Span: api.Span{From: 0, To: 1}}, {Kind: 99}}},
+		{Text: `"x`, Nodes: []api.Node{{Kind: api.KindString, Span: api.Span{From: 0, To: 9}}}}, {Text: "x", Nodes: []api.Node{{Kind: api.KindNumber, Span: api.Span{From: 0, To: 1}}, {Kind: 99}}}, {Text: `"a"`, Nodes: []api.Node{{Kind: api.KindObject, Kids: []int{1, 2, 3}}, {Kind: api.KindNull, Key: api.Span{From: 2, To: 1}}, {Kind: api.KindNull, Key: api.Span{From: 0, To: 9}}, {Kind: api.KindNull, Key: api.Span{From: 0, To: 2}}}},
 	} {
 		for k := range d.Nodes {
 			read.Node(d, k)

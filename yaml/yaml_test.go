@@ -261,13 +261,15 @@ func TestManyTexts(t *testing.T) { // P12.4, P12.5, P12.6
 }
 
 func TestOtherDocsEnd(t *testing.T) { // P12.2
+	// Each node stands twice beneath the one ahead of it: as a tree, these are too many to be gone through.
 	twice := api.Ydoc{}
-	for k := range 60 {
-		twice.Nodes = append(twice.Nodes, api.Ynode{Kind: api.NodeList, Kids: []int{k + 1, k + 1}})
+	for k := range api.MaxDepth {
+		twice.Nodes = append(twice.Nodes, api.Ynode{Kind: api.NodeList, Kids: []int{k + 1, k + 1, k + 1, k + 1}})
 	}
+	twice.Nodes[api.MaxDepth-1] = api.Ynode{Kind: api.NodeRest}
 	wild := api.Span{From: -5, To: api.MaxInt}
 	for _, d := range []api.Ydoc{
-		twice, {}, {Nodes: []api.Ynode{{Kind: api.NodeList, Kids: []int{0, -1, 9}}}}, {Nodes: []api.Ynode{{Kind: api.NodeMap, Kids: []int{1}}, {Kind: api.NodeRest, Key: wild, Rest: wild}}},
+		twice, {Text: "ab", Nodes: []api.Ynode{{Kind: api.NodeRest, Rest: sp(2, 1)}, {Kind: api.NodeRest, Rest: sp(0, 3)}, {Kind: api.NodeRest, Rest: sp(-1, 1)}, {Kind: api.NodeMap, Kids: []int{4}}, {Kind: api.NodeRest, Key: sp(2, 1)}}}, {}, {Nodes: []api.Ynode{{Kind: api.NodeList, Kids: []int{0, -1, 9}}}}, {Nodes: []api.Ynode{{Kind: api.NodeMap, Kids: []int{1}}, {Kind: api.NodeRest, Key: wild, Rest: wild}}},
 		{Text: "abc", Lines: []api.Line{{Span: wild}, {Span: wild}}, Nodes: []api.Ynode{{Kind: api.NodeLiteral, From: 0, To: 2, Rest: wild}, {Kind: api.NodeLiteral, From: api.MaxInt, To: api.MinInt}, {Kind: api.NodeLiteral, From: -1, To: 9}, {Kind: api.NodeLiteral, From: api.MinInt, To: api.MaxInt}, {Kind: 77}}},
 	} {
 		for k := range d.Nodes {

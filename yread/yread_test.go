@@ -92,7 +92,8 @@ func TestAt(t *testing.T) { // P13.3
 		}
 	}
 	wild := api.Span{From: -5, To: api.MaxInt}
-	for _, d := range []api.Ydoc{{}, {Nodes: []api.Ynode{{Kind: api.NodeList, Kids: []int{0, -1, 9}}}}, {Nodes: []api.Ynode{{Kind: api.NodeMap, Key: wild, Rest: wild, Kids: []int{9, -1, 0}}}}, {Nodes: []api.Ynode{{Kind: 99}}}, {Nodes: []api.Ynode{{Kind: api.NodeRest, Rest: wild}}}} {
+	keys := api.Ydoc{Text: "ab", Nodes: []api.Ynode{{Kind: api.NodeMap, Kids: []int{1, 2, 3}}, {Key: api.Span{From: 2, To: 1}}, {Key: api.Span{From: 0, To: 3}}, {Key: api.Span{From: -1, To: 1}}}}
+	for _, d := range []api.Ydoc{keys, {}, {Nodes: []api.Ynode{{Kind: api.NodeList, Kids: []int{0, -1, 9}}}}, {Nodes: []api.Ynode{{Kind: api.NodeMap, Key: wild, Rest: wild, Kids: []int{9, -1, 0}}}}, {Nodes: []api.Ynode{{Kind: 99}}}, {Nodes: []api.Ynode{{Kind: api.NodeRest, Rest: wild}}}} {
 		for _, p := range [][]string{nil, {"0"}, {"1"}, {"2"}, {""}, slices.Repeat([]string{"0"}, 64)} {
 			yread.At(d, p)
 		}
