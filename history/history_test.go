@@ -196,6 +196,15 @@ func TestManyBases(t *testing.T) { // P31.3
 	if l := history.Bases(h, 62, 63); !slices.Equal(l, []int{60, 61}) {
 		t.Errorf("%v", l)
 	}
+	deep := shape(nil, nil, nil)
+	for k := 3; k+2 < api.MaxCommits; k += 3 {
+		for i := range 3 {
+			deep = append(deep, api.Commit{Parents: []int{k - 3, k - 2, k - 1}, Value: value.Num(k + i)})
+		}
+	}
+	if v, err := history.Base(deep, len(deep)-1, len(deep)-2, nil); v.Kind == 0 || err != api.OK || len(history.Bases(deep, len(deep)-1, len(deep)-2)) != 3 {
+		t.Errorf("%s, %d", text(v), err)
+	}
 	wide := shape(nil)
 	for range 30 {
 		wide = append(wide, api.Commit{Parents: []int{0}, Value: of(t, `{"a":1}`)})

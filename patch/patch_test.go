@@ -94,8 +94,10 @@ func TestApply(t *testing.T) { // P21.1
 		}
 	}
 	for _, v := range []api.Value{{}, {Kind: api.KindHole, Text: "0"}} {
-		if w, n, err := patch.Apply(v, []api.Op{{}}); !samples.Zero(w) || n != 0 || err != api.ErrArg {
-			t.Errorf("%v: %v, %d, %d", v, w, n, err)
+		for _, l := range [][]api.Op{nil, {{}}, {{Do: "replace", Value: value.Num(1)}}} {
+			if w, n, err := patch.Apply(v, l); !samples.Zero(w) || n != 0 || err != api.ErrArg {
+				t.Errorf("%v, %v: %v, %d, %d", v, l, w, n, err)
+			}
 		}
 	}
 	for _, o := range wrong() {

@@ -213,6 +213,14 @@ func TestRecordForgetFind(t *testing.T) { // P27.2
 	if s, ok := resolve.Find(less, b); told(s) != "-" || ok || s.Has {
 		t.Errorf("%v, %v", s, ok)
 	}
+	text, _ := resolve.Print(a)
+	twice := []api.Memo{{Print: text, Side: side(t, "1")}, {Print: text, Side: side(t, "1")}}
+	if l, ok := resolve.Forget(twice, a); l != nil || ok {
+		t.Errorf("%v", l)
+	}
+	if s, ok := resolve.Find(twice, a); told(s) != "-" || ok {
+		t.Errorf("%v", s)
+	}
 	for _, bad := range wrongConflicts(t) {
 		l, e := resolve.Record(again, bad, side(t, "[]"))
 		m, ok := resolve.Forget(again, bad)
@@ -242,8 +250,7 @@ func TestRecordForgetFind(t *testing.T) { // P27.2
 	}
 	old := con(t, api.ClassChange, "0", "5000", "1007")
 	fullOnes := full(t, api.MaxMemos)
-	text, _ := resolve.Print(old)
-	fullOnes[7].Print = text
+	fullOnes[7].Print, _ = resolve.Print(old)
 	if slices.SortFunc(fullOnes, func(a, b api.Memo) int { return strings.Compare(a.Print, b.Print) }); !resolve.Right(fullOnes) {
 		t.Fatal("memos of the test")
 	}
