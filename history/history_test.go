@@ -185,7 +185,6 @@ func TestBaseAndMerge(t *testing.T) { // P31.3
 }
 
 func TestManyBases(t *testing.T) { // P31.3
-	// Each pair crosses the pair ahead of it: without keeping what is known, base values would be found over and over.
 	h := shape(nil, nil)
 	for k := 2; k < api.MaxCommits; k += 2 {
 		h = append(h, api.Commit{Parents: []int{k - 2, k - 1}, Value: value.Num(k)}, api.Commit{Parents: []int{k - 2, k - 1}, Value: value.Num(k + 1)})
@@ -196,13 +195,13 @@ func TestManyBases(t *testing.T) { // P31.3
 	if l := history.Bases(h, 62, 63); !slices.Equal(l, []int{60, 61}) {
 		t.Errorf("%v", l)
 	}
-	deep := shape(nil, nil, nil)
-	for k := 3; k+2 < api.MaxCommits; k += 3 {
-		for i := range 3 {
-			deep = append(deep, api.Commit{Parents: []int{k - 3, k - 2, k - 1}, Value: value.Num(k + i)})
-		}
+	// Each four come out of the four ahead of them: if base values were found anew for each pair, there would be no end of it.
+	deep := shape(nil, nil, nil, nil)
+	for k := 4; k < api.MaxCommits; k++ {
+		from := k - k%4
+		deep = append(deep, api.Commit{Parents: []int{from - 4, from - 3, from - 2, from - 1}, Value: value.Num(k)})
 	}
-	if v, err := history.Base(deep, len(deep)-1, len(deep)-2, nil); v.Kind == 0 || err != api.OK || len(history.Bases(deep, len(deep)-1, len(deep)-2)) != 3 {
+	if v, err := history.Base(deep, len(deep)-1, len(deep)-2, nil); v.Kind == 0 || err != api.OK || len(history.Bases(deep, len(deep)-1, len(deep)-2)) != 4 {
 		t.Errorf("%s, %d", text(v), err)
 	}
 	wide := shape(nil)
