@@ -166,7 +166,12 @@ func TestBest(t *testing.T) { // P17.2
 		trees = append(trees, one)
 	}
 	check := func(a, b api.Tree) {
+		old := slices.Concat(a.Left, b.Left)
 		m, err := mapping.Best(a, b)
+		again, _ := mapping.Best(a, b)
+		if !slices.Equal(m, again) || !slices.Equal(slices.Concat(a.Left, b.Left), old) {
+			t.Errorf("%v, %v: %v, then %v", a, b, m, again)
+		}
 		want, _ := ted.Cost(a, b)
 		if !right(a, b, m) || price(a, b, m) != want || err != api.OK {
 			t.Errorf("%v, %v: %v costs %d, not %d", a, b, m, price(a, b, m), want)

@@ -193,6 +193,43 @@ func TestTextWrong(t *testing.T) { // P21.2
 	}
 }
 
+func TestNewMemory(t *testing.T) { // P21.4
+	item := of(t, `{"a":[1,[2]]}`)
+	o := api.Op{Do: "add", Path: append(make([]string, 0, 4), "x"), Value: samples.Roomy(item)}
+	v, err := patch.Text([]api.Op{o, o})
+	if err != api.OK {
+		t.Fatal(err)
+	}
+	whole := value.Copy(v)
+	samples.Spoil(v.Items[0])
+	if !samples.Same(v.Items[1], whole.Items[1]) || !samples.Untouched(o.Value, item) {
+		t.Errorf("lists share memory: %v, %v", v.Items[1], o.Value)
+	}
+	in := samples.Roomy(whole)
+	l, n, err := patch.Parse(in)
+	if n != 2 || err != api.OK {
+		t.Fatal(err)
+	}
+	samples.Spoil(l[0].Value)
+	l[0].Path[0] = "spoilt"
+	if !same(l[1], o) || !samples.Untouched(in, whole) {
+		t.Errorf("lists share memory: %v, %v", l[1], in)
+	}
+	twice, _, err := patch.Apply(of(t, `{"x":1}`), []api.Op{o, {Do: "copy", Path: []string{"y"}, From: []string{"x"}}, {Do: "add", Path: []string{"z"}, Value: o.Value}})
+	if err != api.OK {
+		t.Fatal(err)
+	}
+	samples.Spoil(twice.Items[0])
+	if !samples.Same(twice.Items[1], item) || !samples.Same(twice.Items[2], item) || !samples.Untouched(o.Value, item) {
+		t.Errorf("lists share memory: %v", twice)
+	}
+	old := slices.Clone(o.Path[:4])
+	patch.Apply(of(t, `{"x":1}`), []api.Op{o})
+	if !slices.Equal(o.Path[:4], old) {
+		t.Error("spare room was written")
+	}
+}
+
 // paths are those of a value's nodes.
 func paths(v api.Value, at []string) [][]string {
 	l := [][]string{at}

@@ -209,6 +209,12 @@ func TestDistance(t *testing.T) { // P16.3, P16.4, P16.5
 		}
 	}
 	x := api.Tree{Labels: []string{"a", "b"}, Left: []int{0, 0}}
+	y := api.Tree{Labels: []string{"b", "c", "d"}, Left: []int{0, 1, 0}}
+	ted.Cost(x, y)
+	ted.Costs(y, x)
+	if !slices.Equal(x.Labels, []string{"a", "b"}) || !slices.Equal(y.Labels, []string{"b", "c", "d"}) || !slices.Equal(y.Left, []int{0, 1, 0}) || !slices.Equal(x.Left, []int{0, 0}) {
+		t.Errorf("%v, %v were turned", x, y)
+	}
 	rows, _ := ted.Costs(x, x)
 	_ = append(rows[0], 77)
 	rows[0][0] = 99
