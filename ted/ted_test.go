@@ -232,10 +232,20 @@ func TestGreatTrees(t *testing.T) { // P16.1
 	for i := range 512 {
 		flat.Left = append(flat.Left, i)
 	}
+	// A comb leans to the right: beneath each node a leaf, and the rest of it.
+	var comb, other api.Tree
+	for i := range 256 {
+		comb.Labels, comb.Left = append(comb.Labels, "leaf"), append(comb.Left, i)
+	}
+	for i := range 255 {
+		comb.Labels, comb.Left = append(comb.Labels, "node"), append(comb.Left, 254-i)
+	}
+	other = api.Tree{Labels: slices.Clone(comb.Labels), Left: comb.Left}
+	other.Labels[7], other.Labels[300] = "turned", "turned"
 	for _, c := range []struct {
 		a, b api.Tree
 		n    int
-	}{{chain, chain, 0}, {flat, flat, 0}, {chain, flat, 1022}, {flat, api.Tree{}, 512}, {api.Tree{}, chain, 512}, {api.Tree{}, api.Tree{}, 0}} {
+	}{{comb, comb, 0}, {comb, other, 2}, {comb, api.Tree{}, 511}, {chain, chain, 0}, {flat, flat, 0}, {chain, flat, 1022}, {flat, api.Tree{}, 512}, {api.Tree{}, chain, 512}, {api.Tree{}, api.Tree{}, 0}} {
 		if n, err := ted.Cost(c.a, c.b); n != c.n || err != api.OK {
 			t.Errorf("%d, %d, not %d", n, err, c.n)
 		}
